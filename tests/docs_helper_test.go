@@ -186,3 +186,28 @@ func parsed(t *testing.T, text string) impl.Doc {
 	}
 	return d
 }
+
+// noDocs are documents that are not valid.
+func noDocs() map[string]impl.Doc {
+	return map[string]impl.Doc{
+		"zero":           {},
+		"unknown":        leaf(9),
+		"no text":        word(""),
+		"capital":        group(word("A")),
+		"long text":      cat(word("abcdefghijklm"), leaf(impl.OpLine)),
+		"space":          word("a b"),
+		"great nest":     nest(10, leaf(impl.OpLine)),
+		"negative nest":  cat(leaf(impl.OpLine), nest(-1, leaf(impl.OpLine))),
+		"no Kids":        {Op: impl.OpCat},
+		"one Kid":        {Op: impl.OpCat, Kids: []impl.Doc{word("a")}},
+		"line with Text": {Op: impl.OpLine, Text: "a"},
+		"line with Kid":  {Op: impl.OpLine, Kids: []impl.Doc{word("a")}},
+		"group with N":   {Op: impl.OpGroup, N: 1, Kids: []impl.Doc{word("a")}},
+		"81 nodes":       wide(81),
+		"81 plain nodes": deep(40, leaf(impl.OpLine), func(d impl.Doc) impl.Doc { return cat(d, leaf(impl.OpBreak)) }),
+		"41 deep":        deep(40, leaf(impl.OpLine), group),
+		"very deep":      deep(1_000_000, leaf(impl.OpLine), group),
+		"very many":      doubled(60, leaf(impl.OpLine)),
+		"within itself":  loop(1, impl.OpLine),
+	}
+}
