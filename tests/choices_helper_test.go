@@ -170,6 +170,31 @@ func checkNotTold(t *testing.T, name string, d impl.Doc, l []impl.Row) {
 	}
 }
 
+// checkOwnLayouts overwrites each layout that from makes of a document, and looks for changes in all others and in the
+// document; then it overwrites the document.
+func checkOwnLayouts(t *testing.T, plain impl.Doc, from func(impl.Doc) [][]impl.Row) {
+	t.Helper()
+	d := roomy(plain)
+	before, want := memory(d), from(plain)
+	list := from(d)
+	for i, l := range list {
+		if !sameRows(l, want[i]) {
+			t.Fatalf("%s: the layout %d is changed by another one", textOf(plain), i)
+		}
+		scribbleRows(l)
+	}
+	if memory(d) != before {
+		t.Fatalf("%s: a result shares memory with an argument", textOf(plain))
+	}
+	list = from(d)
+	scribble(d)
+	for i, l := range list {
+		if !sameRows(l, want[i]) {
+			t.Fatalf("%s: the layout %d shares memory with an argument", textOf(plain), i)
+		}
+	}
+}
+
 // groups is bottom in n groups: it has n choices more than bottom, if that has no OpHard.
 func groups(n int, bottom impl.Doc) impl.Doc { return deep(n, bottom, group) }
 
@@ -180,4 +205,21 @@ func product(bottom impl.Doc, factors ...int) impl.Doc {
 		d = cat(groups(n-1, bottom), d)
 	}
 	return d
+}
+
+// greatChoiceDocs are documents with as many nodes, or as many on the way down, as there can be, and few choices.
+func greatChoiceDocs() map[string]impl.Doc {
+	nests := layers()["nest"]
+	texts := func(d impl.Doc) impl.Doc { return cat(word("abcdefghijkl"), d) }
+	lined := func(d impl.Doc) impl.Doc { return cat(leaf(impl.OpLine), d) }
+	return map[string]impl.Doc{
+		"deep group":  deep(38, group(leaf(impl.OpLine)), nests),
+		"group above": group(deep(38, leaf(impl.OpBreak), nests)),
+		"groups":      groups(39, leaf(impl.OpLine)),
+		"hard groups": groups(39, leaf(impl.OpHard)),
+		"long line":   group(deep(38, word("abcdefghijkl"), texts)),
+		"many lines":  group(deep(38, leaf(impl.OpBreak), lined)),
+		"wide":        wide(80),
+		"in between":  deep(13, leaf(impl.OpLine), func(d impl.Doc) impl.Doc { return group(nest(9, lined(d))) }),
+	}
 }

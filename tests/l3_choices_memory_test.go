@@ -61,28 +61,9 @@ func TestChoiceArgumentsStay(t *testing.T) {
 	}
 }
 
-// TestChoiceResultsMemory overwrites each layout of each result, and looks for changes in all others.
 func TestChoiceResultsMemory(t *testing.T) {
-	for _, plain := range memoryDocs(t) {
-		d := roomy(plain)
-		before, want := memory(d), layoutsFrom(plain)
-		list := layoutsFrom(d)
-		for i, l := range list {
-			if !sameRows(l, want[i]) {
-				t.Fatalf("%s: the layout %d is changed by another one", textOf(plain), i)
-			}
-			scribbleRows(l)
-		}
-		if memory(d) != before {
-			t.Fatalf("%s: a result shares memory with an argument", textOf(plain))
-		}
-		list = layoutsFrom(d)
-		scribble(d)
-		for i, l := range list {
-			if !sameRows(l, want[i]) {
-				t.Fatalf("%s: the layout %d shares memory with an argument", textOf(plain), i)
-			}
-		}
+	for _, d := range memoryDocs(t) {
+		checkOwnLayouts(t, d, layoutsFrom)
 	}
 }
 

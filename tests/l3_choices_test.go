@@ -282,19 +282,7 @@ func TestLayoutsLimit(t *testing.T) {
 }
 
 func TestGreatDocChoices(t *testing.T) {
-	nests := layers()["nest"]
-	texts := func(d impl.Doc) impl.Doc { return cat(word("abcdefghijkl"), d) }
-	lined := func(d impl.Doc) impl.Doc { return cat(leaf(impl.OpLine), d) }
-	for name, d := range map[string]impl.Doc{
-		"deep group":  deep(38, group(leaf(impl.OpLine)), nests),
-		"group above": group(deep(38, leaf(impl.OpBreak), nests)),
-		"groups":      groups(39, leaf(impl.OpLine)),
-		"hard groups": groups(39, leaf(impl.OpHard)),
-		"long line":   group(deep(38, word("abcdefghijkl"), texts)),
-		"many lines":  group(deep(38, leaf(impl.OpBreak), lined)),
-		"wide":        wide(80),
-		"in between":  deep(13, leaf(impl.OpLine), func(d impl.Doc) impl.Doc { return group(nest(9, lined(d))) }),
-	} {
+	for name, d := range greatChoiceDocs() {
 		if !impl.DocValid(d) {
 			t.Fatalf("%s: the test's document is not valid", name)
 		}
