@@ -104,10 +104,12 @@ func firstGroup(text string) (front, inside, behind string, found bool) {
 	}
 }
 
-// greedy renders a document as a text: it decides on the first group, and writes the text again without it, until there
+// greedy renders a document as a text.
+func greedy(d impl.Doc, width int) ([]impl.Row, []bool) { return greedyMarked(marked(d), width) }
+
+// greedyMarked renders a marked text: it decides on the first group, and writes the text again without it, until there
 // is none.
-func greedy(d impl.Doc, width int) ([]impl.Row, []bool) {
-	text := marked(d)
+func greedyMarked(text string, width int) ([]impl.Row, []bool) {
 	var flags []bool
 	for {
 		front, inside, behind, found := firstGroup(text)
