@@ -35,6 +35,14 @@ func wide(n int) impl.Doc {
 	return cat(wide((n-1)/2), wide(n-1-(n-1)/2))
 }
 
+// balanced is a row of so many equal parts that is no deeper than it has to be.
+func balanced(parts int, part impl.Doc) impl.Doc {
+	if parts == 1 {
+		return part
+	}
+	return cat(balanced(parts/2, part), balanced(parts-parts/2, part))
+}
+
 // deep puts bottom below so many layers, each made by around.
 func deep(layers int, bottom impl.Doc, around func(impl.Doc) impl.Doc) impl.Doc {
 	for range layers {

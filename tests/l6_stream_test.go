@@ -152,7 +152,7 @@ func TestDocsOfLimits(t *testing.T) {
 		checkDocOf(t, c.list, docFrom(c.list))
 	}
 	// A valid document can have the tokens of one that is too deep.
-	d := groups(2, balanced(39))
+	d := groups(2, balanced(39, word("a")))
 	list, ok := impl.TokensOf(d)
 	if !ok || !impl.DocValid(d) {
 		t.Fatalf("TokensOf(%s) = %s, %v", textOf(d), signsOf(list), ok)
@@ -160,14 +160,6 @@ func TestDocsOfLimits(t *testing.T) {
 	if other, ok := impl.DocOf(list); ok || !isZeroDoc(other) {
 		t.Errorf("DocOf(%s) = %v, %v", signsOf(list), other, ok)
 	}
-}
-
-// balanced is a row of so many texts that is no deeper than it has to be.
-func balanced(texts int) impl.Doc {
-	if texts == 1 {
-		return word("a")
-	}
-	return cat(balanced(texts/2), balanced(texts-texts/2))
 }
 
 func TestKnownStreamSizes(t *testing.T) {
