@@ -337,7 +337,11 @@ func (r *docReader) around(d Doc, kids int, end byte, depth int) (Doc, bool) {
 
 // CatDocs returns a document of two documents, one behind the other.
 func CatDocs(a Doc, b Doc) (Doc, bool) {
-	d := Doc{Op: OpCat, Kids: []Doc{a, b}}
+	return validCopy(Doc{Op: OpCat, Kids: []Doc{a, b}})
+}
+
+// validCopy returns d in new memory; it returns false if d is not valid.
+func validCopy(d Doc) (Doc, bool) {
 	if !DocValid(d) {
 		return Doc{}, false
 	}

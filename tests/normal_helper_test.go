@@ -208,18 +208,20 @@ func passes() []pass {
 	}
 }
 
-// checkChanged checks a document and an ok that a function has returned: that of a text, or the zero value and false if
-// that is empty.
+// isMade reports whether a function has returned the document of a text and true, or the zero value and false if that is
+// empty.
+func isMade(got impl.Doc, ok bool, want string) bool {
+	if want == "" {
+		return !ok && isZeroDoc(got)
+	}
+	return ok && impl.FormatDoc(got) == want && textOf(got) == want
+}
+
+// checkChanged checks a document and an ok that a function has returned for the document d, as isMade does.
 func checkChanged(t *testing.T, what string, d, got impl.Doc, ok bool, want string) {
 	t.Helper()
-	if want == "" {
-		if ok || !isZeroDoc(got) {
-			t.Fatalf("%s(%s) = %s, %v, want nothing", what, textOf(d), textOf(got), ok)
-		}
-		return
-	}
-	if !ok || textOf(got) != want || impl.FormatDoc(got) != want {
-		t.Fatalf("%s(%s) = %s, %v, want %s", what, textOf(d), textOf(got), ok, want)
+	if !isMade(got, ok, want) {
+		t.Fatalf("%s(%s) = %v, %v, want %q", what, textOf(d), got, ok, want)
 	}
 }
 
